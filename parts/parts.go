@@ -36,6 +36,14 @@ func Bool(b bool) int {
 	return 0
 }
 
+// Signed returns the number that stands for one that can be negative.
+func Signed(n int) int {
+	if n < 0 {
+		return -2*n + 1
+	}
+	return 2 * n
+}
+
 // Int returns the encoding of a number from 0 to api.MaxInt.
 func Int(n int) string {
 	s, _ := codec.PutInt(n)
@@ -94,6 +102,20 @@ func (r *Reader) Int() int {
 	}
 	r.Bytes(size)
 	return n
+}
+
+// Signed reads a number that can be negative.
+func (r *Reader) Signed() int {
+	n := r.Int()
+	if n == 1 {
+		// There is no negative zero.
+		r.Fail()
+		return 0
+	}
+	if n%2 == 1 {
+		return -(n / 2)
+	}
+	return n / 2
 }
 
 // Count reads how many elements follow. Each of them has at least one byte, so there can't be more of them than bytes.

@@ -18,6 +18,14 @@ func TestReader(t *testing.T) {
 	if r.Bytes(len(s)+1) != "" || !r.Bad() || r.Int() != 0 || r.Text() != "" || r.Bool() || r.Done() || r.Left() != 0 {
 		t.Error("after a mistake")
 	}
+	for _, n := range []int{0, 1, -1, 5, -300} {
+		if r := parts.Read(parts.Int(parts.Signed(n))); r.Signed() != n || !r.Done() {
+			t.Error("Signed", n)
+		}
+	}
+	if r := parts.Read("\x01"); r.Signed() != 0 || !r.Bad() {
+		t.Error("a negative zero")
+	}
 	if r := parts.Read("\x02"); r.Bool() || !r.Bad() {
 		t.Error("a truth value is 0 or 1")
 	}
