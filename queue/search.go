@@ -23,7 +23,7 @@ func speculation(q api.Queue, order []int) iter.Seq[[]api.File] {
 			if !yield(files) {
 				return
 			}
-			if colorOf(q, files) != red {
+			if colorOf(q, files) != redTree {
 				on = files
 			}
 		}
@@ -33,7 +33,7 @@ func speculation(q api.Queue, order []int) iter.Seq[[]api.File] {
 // refused reports whether a change conflicts with the trunk, or its result on it is red.
 func refused(q api.Queue, c api.Change) bool {
 	files, ok := result(q, c, Trunk(q))
-	return !ok || colorOf(q, files) == red
+	return !ok || colorOf(q, files) == redTree
 }
 
 // built is a tree, unless there is a conflict on the way to it.
@@ -97,9 +97,9 @@ func (r *refusing) bad(set []int) bool {
 		return false
 	}
 	switch colorOf(r.q, b.files) {
-	case red:
+	case redTree:
 		return false
-	case unknown:
+	case unknownTree:
 		r.need(b.files)
 		return false
 	}
@@ -108,9 +108,9 @@ func (r *refusing) bad(set []int) bool {
 		return true
 	}
 	switch colorOf(r.q, files) {
-	case red:
+	case redTree:
 		return true
-	case unknown:
+	case unknownTree:
 		r.need(files)
 	}
 	return false
@@ -205,11 +205,11 @@ func grown(q api.Queue) bool {
 		c := change(q, x.Change)
 		before, _ := Past(q, k)
 		files, ok := result(q, c, before)
-		if c.At > k || !ok || !same(files, x.Files) || colorOf(q, files) != green {
+		if c.At > k || !ok || !same(files, x.Files) || colorOf(q, files) != greenTree {
 			return false
 		}
 	}
-	return colorOf(q, q.Start) == green
+	return colorOf(q, q.Start) == greenTree
 }
 
 // explained reports whether the changes with which others are refused have landed, in order, after these were written.
