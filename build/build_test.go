@@ -9,7 +9,9 @@ import (
 	"cordwood/action"
 	"cordwood/api"
 	"cordwood/build"
+	"cordwood/eval"
 	"cordwood/graph"
+	"cordwood/repomerge"
 	"cordwood/sandbox"
 )
 
@@ -122,5 +124,23 @@ func TestProducts(t *testing.T) {
 	other := files("BUILD", rules+" lib z ;", "a.pk", lib, "t.pk", "?", "z.pk", "")
 	if s, e := build.Artifact(other, "code a"); s != products[2].Data || e != api.OK {
 		t.Error("P43.4", e)
+	}
+}
+
+func TestMeaning(t *testing.T) {
+	bodies := []string{"true", "false", "(a.f = 2)", "(a.f = 3)", "loop", "((999999999 + a.f) = 1)", "(let x = (1 :: nil) in (case x of nil -> false | h :: k -> (h = 1)))"}
+	for i, one := range bodies {
+		for _, two := range bodies {
+			test := fmt.Sprintf("use a ; test loop @1 = %s ; test more @2 = %s ;", one, two)
+			l := tree(test)
+			modules, _, _, e := repomerge.Load(l)
+			pass := e == api.OK
+			for id := 1; id < 3; id++ {
+				pass = pass && eval.Test(modules, api.Name{Pack: "t", Id: id}, api.TestSteps, 0).Pass
+			}
+			if ok := build.Build(l).Targets[1].Ok; ok != pass {
+				t.Error("P43.3", i, two, ok)
+			}
+		}
 	}
 }

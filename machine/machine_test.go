@@ -158,3 +158,36 @@ func TestForged(t *testing.T) {
 		machine.Result(m)
 	}
 }
+
+func TestValues(t *testing.T) {
+	result := func(blocks ...api.Block) api.Value {
+		t.Helper()
+		m, _ := machine.Run(begin(t, program(blocks...), 0), 1000)
+		v, e := machine.Result(m)
+		if e != api.OK {
+			t.Fatal("P29.5", e)
+		}
+		return v
+	}
+	for _, a := range []int{-7, 0, 3, 31622} {
+		for _, b := range []int{-31622, -1, 0, 3, 8} {
+			for s, want := range map[string]api.Value{"+": num(a + b), "-": num(a - b), "*": num(a * b)} {
+				if v := result(block(op(api.IntInstr, a), op(api.IntInstr, b), sign(s), ret)); !same(v, want) {
+					t.Error("P29.5", a, s, b, v)
+				}
+			}
+		}
+	}
+	// Taking a list apart and putting it together again leads to the list.
+	take := op(api.CaseInstr, 0)
+	again := []ins{take, op(api.LocalInstr, 0), op(api.LocalInstr, 1), op(api.ConsInstr, 0), ret}
+	three := []ins{op(api.IntInstr, 1), op(api.IntInstr, 2), op(api.IntInstr, 3), op(api.NilInstr, 0), op(api.ConsInstr, 0), op(api.ConsInstr, 0), op(api.ConsInstr, 0)}
+	if v := result(block(append(three, again...)...)); !same(v, list(num(1), num(2), num(3))) {
+		t.Error("P29.5", v)
+	}
+	// A function sees the variables as they were when it was made.
+	fun := api.Block{Param: true, Captured: 1, Instrs: []ins{op(api.LocalInstr, 0), ret}}
+	if v := result(block(op(api.IntInstr, 5), op(api.BindInstr, 0), op(api.ClosInstr, 1), op(api.DropInstr, 1), op(api.IntInstr, 6), op(api.BindInstr, 0), op(api.IntInstr, 9), op(api.CallInstr, 0), ret), fun); !same(v, num(5)) {
+		t.Error("P29.5", v)
+	}
+}

@@ -214,3 +214,38 @@ func TestErrors(t *testing.T) {
 		}
 	}
 }
+
+func TestFields(t *testing.T) {
+	r := rand.New(rand.NewSource(3))
+	for range 200 {
+		// Each of the three fields is changed by one side only.
+		fields := func(changed int, in bool) (string, string, string) {
+			pub, name, body := "", "f", "1"
+			if changed&1 != 0 == in {
+				pub = "pub "
+			}
+			if changed&2 != 0 == in {
+				name = "g"
+			}
+			if changed&4 != 0 == in {
+				body = "2"
+			}
+			return pub, name, body
+		}
+		text := func(pub, name, body, rest string) string {
+			return fmt.Sprintf("%slet %s @1 = %s ; %s", pub, name, body, rest)
+		}
+		changed := r.Intn(8)
+		lp, ln, lb := fields(changed, true)
+		rp, rn, rb := fields(changed, false)
+		m := merge(t, text("", "f", "1", ""), text(lp, ln, lb, ""), text(rp, rn, rb, ""))
+		if !modmerge.Clean(m) || !same(m, module(t, text("pub ", "g", "2", ""))) {
+			t.Error("P33.4", changed, m)
+		}
+		// Other declarations do not matter for this one.
+		other := merge(t, text("", "f", "1", "let a @5 = 1 ;"), text(lp, ln, lb, "let b @5 = 2 ;"), text(rp, rn, rb, "let c @5 = 3 ; let d @6 = 1 ;"))
+		if !same(other.Decls[0], m.Decls[0]) {
+			t.Error("P33.4", other)
+		}
+	}
+}

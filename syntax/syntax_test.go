@@ -180,3 +180,39 @@ func TestCheckSource(t *testing.T) {
 		t.Error("P21.1: Text", len(s), e)
 	}
 }
+
+func TestUnambiguity(t *testing.T) {
+	// All expressions that are composed of these in one step, and sources with them.
+	leaves := []ex{num(1), num(-1), ref("a"), ref("b"), {Kind: api.NilExpr}, {Kind: api.BoolExpr}, {Kind: api.DotExpr, Name: "a", More: "b"}, {Kind: api.ChanceExpr, Int: 1, Den: 2}}
+	list := slices.Clone(leaves)
+	for _, x := range leaves {
+		list = append(list, fun("a", x), fun("b", x))
+		for _, y := range leaves {
+			for _, s := range []string{"+", "-", "*", "=", "<"} {
+				list = append(list, op(s, x, y))
+			}
+			list = append(list, let("a", x, y), ex{Kind: api.CallExpr, Sub: sub(x, y)}, ex{Kind: api.ConsExpr, Sub: sub(x, y)})
+			for _, z := range leaves {
+				list = append(list, ex{Kind: api.IfExpr, Sub: sub(x, y, z)}, ex{Kind: api.SumExpr, Sub: sub(x, y, z)}, ex{Kind: api.CaseExpr, Name: "a", More: "b", Sub: sub(x, y, z)}, ex{Kind: api.CaseExpr, Name: "b", More: "a", Sub: sub(x, y, z)})
+			}
+		}
+	}
+	met := map[string]bool{}
+	for _, e := range list {
+		s, err := syntax.Expr(e)
+		if err != api.OK || met[s] {
+			t.Fatal("P21.3", s, err)
+		}
+		met[s] = true
+	}
+	for _, d := range []api.Decl{{Kind: 1, Names: []string{"a"}}, {Kind: 2, Names: []string{"a"}}, {Kind: 3, Names: []string{"a"}}, {Kind: 1, Names: []string{"b"}}, {Kind: 1, Names: []string{"a"}, Public: true}, {Kind: 1, Names: []string{"a"}, Doubt: true}, {Kind: 1, Names: []string{"a"}, Id: 1}, {Kind: 1, Names: []string{"a", "", ""}}, {Kind: 1, Names: []string{"", "a", ""}}} {
+		for _, uses := range [][]string{nil, {"a"}, {"a/b"}, {"a", "b"}} {
+			d.Body = num(1)
+			s, err := syntax.Text(api.Source{Uses: uses, Decls: []api.Decl{d}})
+			if err != api.OK || met[s] {
+				t.Error("P21.3", s, err)
+			}
+			met[s] = true
+		}
+	}
+}

@@ -249,3 +249,25 @@ func TestLimit(t *testing.T) {
 		t.Error("P17.1: Serve", e)
 	}
 }
+
+func TestRequests(t *testing.T) {
+	server, a := commit(t, nil, 0, []api.File{{Path: "x", Data: "1"}})
+	client := server
+	server, b := commit(t, server, 1, []api.File{{Path: "x", Data: "2"}}, a)
+	more, _ := commit(t, server, 2, []api.File{{Path: "z", Data: "3"}}, b)
+	rich, _ := commit(t, client, 3, nil)
+	s, r := begin(t, client, digests{b}, digests{a}), begin(t, rich, digests{b}, digests{a})
+	frames := serve(t, server, s, 50)
+	for range 2 {
+		x, _ := transfer.Request(s)
+		y, _ := transfer.Request(r)
+		one, e := transfer.Serve(server, x, 50)
+		two, f := transfer.Serve(more, y, 50)
+		if x != y || one != two || e != api.OK || f != api.OK {
+			t.Error("P17.5", e, f)
+		}
+		// The second time, some of the parts have arrived.
+		s, _ = receive(t, s, frames[1])
+		r, _ = receive(t, r, frames[1])
+	}
+}
