@@ -17,3 +17,10 @@ func TestLongest(t *testing.T) {
 		t.Error("P38.1", at, e)
 	}
 }
+
+func TestOneElement(t *testing.T) {
+	s, e := buildfile.Print([]api.Rule{{Kind: 1, Name: "a", Deps: []string{"b"}, Visible: []string{"c"}}})
+	if e != api.OK || s != "lib a deps b visible c ;\n" {
+		t.Errorf("P38.1: %q %d", s, e)
+	}
+}

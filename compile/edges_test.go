@@ -24,3 +24,11 @@ func TestGreatest(t *testing.T) {
 		}
 	}
 }
+
+func TestLeast(t *testing.T) {
+	ret := ins{Op: api.RetInstr}
+	c := api.Code{Label: "m", Blocks: []api.Block{{Param: true, Instrs: []ins{{Op: api.BoolInstr}, {Op: api.ClosInstr}, {Op: api.JumpInstr}, {Op: api.FalseInstr, A: 5}, {Op: api.LocalInstr}, ret}}}}
+	if e := compile.Check(c); e != api.OK {
+		t.Error("P28.1: Check", e)
+	}
+}

@@ -49,3 +49,16 @@ func TestOutput(t *testing.T) {
 		t.Error("P48.1: Output")
 	}
 }
+
+func TestFreeWorkers(t *testing.T) {
+	// While the first worker is busy, the second one gets the next job.
+	f := newFarm(t, 1, 9, worker("ann", 1, 8), worker("bob", 1, 1))
+	f = submit(t, f, ready("?"))
+	f, _ = tick(t, f)
+	f, _ = tick(t, f)
+	f = submit(t, f, ready("use n ;"))
+	f, _ = tick(t, f)
+	if len(f.Leases.Leases) != 2 || f.Leases.Leases[1].Worker != "bob" || f.Leases.Leases[1].Job != f.Jobs[1].Key {
+		t.Error("P48.1", f.Leases)
+	}
+}

@@ -18,3 +18,14 @@ func TestGreatest(t *testing.T) {
 		t.Error("P45.1: Advance", e)
 	}
 }
+
+func TestSeveral(t *testing.T) {
+	var l api.Leases
+	for i := range 4 {
+		l, _, _ = lease.Grant(l, api.Digest{uint64(i)}, "ann", 1+i%2)
+	}
+	next, out, e := lease.Advance(l, 1)
+	if e != api.OK || len(out) != 2 || out[0] != l.Leases[0] || out[1] != l.Leases[2] || len(next.Leases) != 2 {
+		t.Error("P45.1: Advance", out, e)
+	}
+}

@@ -17,3 +17,13 @@ func TestGreatest(t *testing.T) {
 		t.Error("P56.1: Extends")
 	}
 }
+
+func TestSecondRecord(t *testing.T) {
+	l, _ := ledger.Append(api.Ledger{}, api.Record{Time: 5, Who: "a", What: "b"})
+	if _, e := ledger.Append(l, api.Record{Time: 4, Who: "a", What: "b"}); e != api.ErrOrder {
+		t.Error("P56.1: Append", e)
+	}
+	if l, e := ledger.Append(l, api.Record{Time: 5, Who: "a", What: "b"}); e != api.OK || len(l.Records) != 2 {
+		t.Error("P56.1: Append", e)
+	}
+}

@@ -20,3 +20,12 @@ func TestMostUses(t *testing.T) {
 		t.Error("P33.1", e)
 	}
 }
+
+func TestSides(t *testing.T) {
+	m := module(t, "conflict let f @1 = 1 ; let g @2 = 2 ; conflict let h @3 = 3 ;")
+	for side, want := range map[int]string{0: "let f @1 = 1 ; let g @2 = 2 ; conflict let h @3 = 3 ;", 2: "let g @2 = 2 ; conflict let h @3 = 3 ;"} {
+		if x, e := modmerge.Settle(m, api.Spot{Pack: "me", Kind: api.DoubtConflict, Id: 1}, side); e != api.OK || !same(x, module(t, want)) {
+			t.Error("P33.1: Settle", side, x, e)
+		}
+	}
+}

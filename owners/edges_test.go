@@ -17,3 +17,12 @@ func TestLongest(t *testing.T) {
 		t.Error("P54.1", at, e)
 	}
 }
+
+func TestOtherFiles(t *testing.T) {
+	for _, path := range []string{"A", "x", "AOWNERS", "b/x"} {
+		l := files("OWNERS", top, path, "?")
+		if g, e := owners.Groups(l, "y"); e != api.OK || !same(g, [][]string{{"ann", "bob"}}) {
+			t.Error("P54.3", path, g, e)
+		}
+	}
+}

@@ -172,3 +172,63 @@ func openJobs(x api.Place) int {
 	}
 	return n
 }
+
+func TestNew(t *testing.T) {
+	x := newPlace(t, tree("1"), honest("w"), 1)
+	d, _ := refs.Get(x.Repo.Refs, "trunk")
+	c, e := pool.Get(x.Repo.Pool, d)
+	if e != api.OK || c.Author != "place" || c.Message != "0" || c.Time != 0 || len(c.Parents) != 0 || len(x.Repo.Disk.Sectors) != 300 || x.Repo.Disk.Size != 512 {
+		t.Error("P59.1: New", c, e)
+	}
+	if x.Farm.Length != 10 || x.Farm.Quorum != 1 || x.Queue.Depth != 2 || x.Clock != 0 || len(x.Cache)+len(x.Approvals)+len(x.Ledger.Records) != 0 {
+		t.Error("P59.1: New", x.Farm)
+	}
+	x, _ = do(t, x, submit("ann", "2"), api.OK)
+	x, _ = do(t, x, api.Act{Kind: api.RunInput, Count: 10}, api.OK)
+	d, _ = refs.Get(x.Repo.Refs, "trunk")
+	if c, _ := pool.Get(x.Repo.Pool, d); c.Author != "ann" || c.Message != "1" || c.Time != x.Ledger.Records[1].Time || len(c.Parents) != 1 {
+		t.Error("P59.1: a commit of a landing", c)
+	}
+}
+
+func TestHeldBehindConflict(t *testing.T) {
+	start := files("OWNERS", "prefix b group ann ;", "a", "1", "b", "1")
+	x := newPlace(t, start, honest("w"), 1)
+	for _, l := range [][]api.File{files("OWNERS", "prefix b group ann ;", "a", "2", "b", "1"), files("OWNERS", "prefix b group ann ;", "a", "3", "b", "1"), files("OWNERS", "prefix b group ann ;", "a", "1", "b", "2")} {
+		x, _ = do(t, x, api.Act{Kind: api.SubmitInput, Who: "eve", Files: l}, api.OK)
+	}
+	for len(x.Queue.Landed) == 0 {
+		x, _ = do(t, x, api.Act{Kind: api.TickInput}, api.OK)
+	}
+	if l := place.Held(x); len(l) != 1 || l[0] != 3 {
+		t.Error("P59.1: Held", l)
+	}
+}
+
+func TestFullLedger(t *testing.T) {
+	x := newPlace(t, tree("1"), honest("w"), 1)
+	for range 9998 {
+		x.Ledger.Records = append(x.Ledger.Records, api.Record{Who: "a", What: "b"})
+	}
+	x, _ = place.Do(x, submit("ann", "2"))
+	y, o := place.Do(x, api.Act{Kind: api.RunInput, Count: 10})
+	if o.Err != api.ErrFull || len(o.Events) != 1 || len(y.Ledger.Records) != 10000 || y.Clock == 0 || y.Clock >= 10 {
+		t.Error("P59.1: the ledger fills up", o, y.Clock)
+	}
+}
+
+func TestLostCommit(t *testing.T) {
+	x := newPlace(t, tree("1"), honest("w"), 1)
+	x, _ = do(t, x, submit("ann", "2"), api.OK)
+	x, _ = do(t, x, api.Act{Kind: api.PowerInput, Count: 2}, api.OK)
+	for {
+		y, o := place.Do(x, api.Act{Kind: api.TickInput})
+		if o.Err != api.OK {
+			if o.Err != api.ErrLost || y.Repo.Disk.Left != 0 || len(y.Repo.Disk.Pending) == 0 || len(y.Queue.Pending) != 1 || len(o.Events) != 0 || y.Queue.Clock != x.Queue.Clock {
+				t.Error("P59.1: the disk as it is then", o, y.Repo.Disk.Left)
+			}
+			return
+		}
+		x = y
+	}
+}

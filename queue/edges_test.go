@@ -75,3 +75,58 @@ func TestLateChange(t *testing.T) {
 		t.Error("P58.5", q.Refused)
 	}
 }
+
+func TestSkipped(t *testing.T) {
+	// A change that conflicts is passed over, and the trees of the next ones are needed all the same.
+	q := newQueue(t, files("a", "1", "b", "1"), 3)
+	q = submit(t, q, api.Change{Files: files("a", "2", "b", "1")})
+	q, _ = queue.Land(q, 1)
+	q = submit(t, q, api.Change{Files: files("a", "3", "b", "1")})
+	q = submit(t, q, api.Change{Files: files("a", "1", "b", "2")})
+	if l := queue.Needs(q, nil); !same(l, [][]api.File{files("a", "3", "b", "1"), files("a", "2", "b", "2")}) {
+		t.Error("P58.1: Needs", l)
+	}
+}
+
+// refuse tells what is needed until the last change is refused, and returns with which landings.
+func refuse(t *testing.T, q api.Queue, green func([]api.File) bool) []int {
+	t.Helper()
+	for len(q.Pending) > 0 {
+		for _, l := range queue.Needs(q, nil) {
+			q = tell(t, q, l, green(l))
+		}
+		q, _ = step(t, q)
+		if q.Clock > 50 {
+			t.Fatal("P58.4")
+		}
+	}
+	if len(q.Refused) != 1 {
+		t.Fatal("P58.5", q.Refused)
+	}
+	return q.Refused[0].With
+}
+
+func TestSetsThatDoNotGo(t *testing.T) {
+	has := func(l []api.File, path, data string) bool {
+		return slices.Contains(l, api.File{Path: path, Data: data})
+	}
+	// The second landing is red without the first one, so both are needed to explain the refusal.
+	q := newQueue(t, files("a", "0", "b", "0"), 1)
+	q = submit(t, submit(t, q, api.Change{Files: files("a", "1", "b", "0")}), api.Change{Files: files("a", "0", "b", "1")})
+	q, _ = queue.Land(q, 1)
+	q, _ = queue.Land(q, 2)
+	q = submit(t, q, api.Change{Files: files("a", "0", "b", "2")})
+	if with := refuse(t, q, func(l []api.File) bool { return !has(l, "b", "1") || has(l, "a", "1") }); !slices.Equal(with, []int{1, 2}) {
+		t.Error("P58.5: a red set", with)
+	}
+	// The second landing conflicts without the first one.
+	q = newQueue(t, files("a", "0", "b", "0"), 1)
+	q = submit(t, q, api.Change{Files: files("a", "1", "b", "0")})
+	q, _ = queue.Land(q, 1)
+	q = submit(t, q, api.Change{At: 1, Files: files("a", "2", "b", "1")})
+	q, _ = queue.Land(q, 2)
+	q = submit(t, q, api.Change{Files: files("a", "0", "b", "2")})
+	if with := refuse(t, q, func([]api.File) bool { return true }); !slices.Equal(with, []int{1, 2}) {
+		t.Error("P58.5: a set with a conflict", with)
+	}
+}

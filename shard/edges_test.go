@@ -37,3 +37,12 @@ func TestLeast(t *testing.T) {
 		}
 	}
 }
+
+func TestNine(t *testing.T) {
+	if n, e := shard.Best(make([]int, 9), 2); e != api.ErrLimit || n != 0 {
+		t.Error("P51.1: Best", n, e)
+	}
+	if n, e := shard.Best([]int{1, 1, 1, 1, 1, 1, 1, 2}, 2); e != api.OK || n != 5 {
+		t.Error("P51.1: Best", n, e)
+	}
+}

@@ -16,3 +16,13 @@ func TestLongest(t *testing.T) {
 		}
 	}
 }
+
+func TestLaterRegions(t *testing.T) {
+	c := api.Region{Conflict: true, Left: []string{"a\n"}}
+	c.Base, c.Right = []string{"b\n"}, []string{"c\n"}
+	for _, bad := range []api.Region{{}, {Left: []string{""}}, {Conflict: true}} {
+		if _, e := textmerge.Settle(regions{c, bad}, 0, 0); e != api.ErrArgument {
+			t.Error("P19.1", bad, e)
+		}
+	}
+}
