@@ -17,3 +17,12 @@ func TestMoveToTheEnds(t *testing.T) {
 		}
 	}
 }
+
+func TestMoveBeyond(t *testing.T) {
+	l := []api.Edit{use(api.AddUse, "a", "x"), use(api.AddUse, "b", "x"), use(api.AddUse, "c", "x")}
+	for _, x := range [][2]int{{0, 3}, {3, 0}, {-1, 0}, {0, -1}, {2, 3}, {3, 3}, {-1, -1}} {
+		if m, ok := commute.Move(l, x[0], x[1]); ok || len(m) != 0 {
+			t.Error("P35.1: Move", x)
+		}
+	}
+}

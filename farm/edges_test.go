@@ -62,3 +62,12 @@ func TestFreeWorkers(t *testing.T) {
 		t.Error("P48.1", f.Leases)
 	}
 }
+
+func TestNoJobs(t *testing.T) {
+	if o, ok := farm.Output(newFarm(t, 1, 5, worker("a", 1, 1)), ready("?")); ok || !same(o, api.Output{}) {
+		t.Error("P48.1: a farm without jobs")
+	}
+	if _, ok := farm.Output(api.Farm{}, api.Ready{}); ok {
+		t.Error("P48.1: not a farm")
+	}
+}
